@@ -1,0 +1,1 @@
+"""Tastegrove: what a pattern caught, one tree by each taste."""

@@ -1,0 +1,156 @@
+"""Patterns to test with, and slow answers by the letter of the document to hold the program against."""
+
+import itertools
+import random
+
+NONE = ("none",)
+BLANK = ("blank",)
+SIGNS = "".join(chr(number) for number in range(32, 127) if number != 37)
+A = ("sign", "a")
+B = ("sign", "b")
+AB = ("sign", "ab")
+
+
+def row(*parts):
+    return ("row", parts)
+
+
+def pick(*parts):
+    return ("pick", parts)
+
+
+def again(part):
+    return ("again", part)
+
+
+def held(name, part):
+    return ("held", name, part)
+
+
+def price(number, part):
+    return ("price", number, part)
+
+
+# Each kind, alone and within others, with like parts, none and blank deep within.
+PATTERNS = (
+    NONE,
+    BLANK,
+    A,
+    AB,
+    ("sign", SIGNS),
+    row(A, B),
+    row(A, A),
+    row(A, BLANK, B),
+    row(BLANK, BLANK),
+    row(A, NONE),
+    row(again(A), again(A)),
+    row(again(AB), A, again(AB)),
+    pick(A, B),
+    pick(A, A),
+    pick(A, row(A, A)),
+    pick(row(A, A), A, row(A, A)),
+    pick(BLANK, A, BLANK),
+    pick(NONE, NONE),
+    pick(NONE, A, NONE, again(A)),
+    again(A),
+    again(NONE),
+    again(AB),
+    again(pick(A, A)),
+    again(pick(A, B, row(A, B))),
+    again(row(A, again(A))),
+    again(row(again(A), B)),
+    again(pick(A, row(A, A), row(A, A, A))),
+    row(again(pick(row(A, A), A)), again(A)),
+    row(pick(A, row(A, B)), pick(row(B, A), A, BLANK)),
+    row(pick(BLANK, A), pick(BLANK, A), pick(BLANK, A)),
+    held("x", A),
+    held("word", row(held("x", again(A)), held("x", again(A)))),
+    held("x", BLANK),
+    held("x", NONE),
+    row(held("x", again(A)), held("y", BLANK), B),
+    price(3, A),
+    price(0, BLANK),
+    pick(price(5, A), price(2, A), price(5, A)),
+    price(7, row(price(1, again(A)), price(1000, again(A)))),
+    again(pick(price(3, A), price(1, A))),
+    row(again(pick(price(2, A), price(5, row(A, A)))), pick(price(1, A), BLANK)),
+    held("x", price(4, again(held("y", pick(A, price(2, row(A, A))))))),
+    pick(row(again(A), NONE), again(A)),
+    again(pick(row(A, NONE), A)),
+    row(again(pick(A, row(A, B))), again(B), pick(BLANK, again(B))),
+)
+
+
+# All pairs (tree, end) of a pattern over stretches of the text that begin at the place.
+def trees_from(pattern, text, at):
+    kind = pattern[0]
+    if kind == "blank":
+        return [(("blank",), at)]
+    if kind == "sign":
+        return [(("sign", sign), at + 1) for sign in text[at:at + 1] if sign in pattern[1]]
+    if kind == "row":
+        pairs = [((), at)]
+        for part in pattern[1]:
+            pairs = [(trees + (tree,), end) for trees, to in pairs for tree, end in trees_from(part, text, to)]
+        return [(("row", trees), end) for trees, end in pairs]
+    if kind == "pick":
+        return [(("pick", k, tree), end) for k, part in enumerate(pattern[1])
+                for tree, end in trees_from(part, text, at)]
+    if kind == "again":
+        pairs, found = [((), at)], []
+        while pairs:
+            found.extend(pairs)
+            pairs = [(turns + (turn,), end) for turns, to in pairs for turn, end in trees_from(pattern[1], text, to)]
+        return [(("again", turns), end) for turns, end in found]
+    if kind in ("held", "price"):
+        return [((kind, pattern[1], tree), end) for tree, end in trees_from(pattern[2], text, at)]
+    return []
+
+
+def slow_trees(pattern, text):
+    return [tree for tree, end in trees_from(pattern, text, 0) if end == len(text)]
+
+
+def texts_up_to(signs, length):
+    return ["".join(text) for n in range(length + 1) for text in itertools.product(signs, repeat=n)]
+
+
+# A pattern by chance, from a source that always gives the same.
+def chance_pattern(source, depth):
+    kinds = ["blank", "sign", "sign", "sign"] + ["row", "pick", "again", "held", "price"] * (2 if depth > 1 else 0)
+    kind = source.choice(kinds + (["none"] if source.random() < 0.3 else []))
+    if kind in ("none", "blank"):
+        return (kind,)
+    if kind == "sign":
+        return ("sign", source.choice(("a", "b", "ab")))
+    if kind in ("row", "pick"):
+        return (kind, tuple(chance_pattern(source, depth - 1) for k in range(source.randint(2, 3))))
+    part = chance_pattern(source, depth - 1)
+    if kind == "again":
+        return A if trees_from(part, "", 0) else ("again", part)
+    return (kind, source.choice("xyz") if kind == "held" else source.randint(0, 3), part)
+
+
+def chance_patterns(seed, count, depth):
+    source = random.Random(seed)
+    return [chance_pattern(source, depth) for k in range(count)]
+
+
+# The thing with one place, however deep, exchanged, left out, doubled or added: once for each place and change.
+def changed_at_one_place(thing, changes):
+    for change in changes:
+        yield change
+    if isinstance(thing, tuple):
+        for k, inner in enumerate(thing):
+            for changed in changed_at_one_place(inner, changes):
+                yield thing[:k] + (changed,) + thing[k + 1:]
+            yield thing[:k] + thing[k + 1:]
+            yield thing[:k] + (inner,) + thing[k:]
+        yield thing + (0,)
+
+
+# So many tuples around the thing.
+def wrapped(thing, depth):
+    for k in range(depth):
+        thing = (thing,)
+    return thing
