@@ -154,3 +154,23 @@ def wrapped(thing, depth):
     for k in range(depth):
         thing = (thing,)
     return thing
+
+
+# By the letter of 2.3.
+def slow_marks(tree):
+    kind = tree[0]
+    if kind == "row":
+        return tuple(mark for inner in tree[1] for mark in slow_marks(inner))
+    if kind == "pick":
+        return (tree[1],) + slow_marks(tree[2])
+    if kind == "again":
+        return tuple(mark for turn in tree[1] for mark in (0,) + slow_marks(turn)) + (1,)
+    return slow_marks(tree[2]) if kind in ("held", "price") else ()
+
+
+# Of sixty signs these have 61, 16, 200 and 201 trees.
+PAIR = row(again(A), again(A))
+SIXTEEN = row(again(A), pick(BLANK, BLANK, BLANK, BLANK), pick(BLANK, BLANK, BLANK, BLANK))
+TWO_HUNDRED = pick(PAIR, PAIR, PAIR, SIXTEEN, again(A))
+ONE_MORE = pick(PAIR, PAIR, PAIR, SIXTEEN, again(A), again(A))
+SIXTY = "a" * 60
