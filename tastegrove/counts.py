@@ -13,7 +13,7 @@ def add_ways(ways, more, times):
 # to how many trees of the make have this stretch.
 class Counts:
     def __init__(self, pattern, text):
-        self.text = text
+        self.signs = text
         self.makes = makes_of(pattern)
         self.parts = parts_of(pattern)
         self.table = [{} for make in self.makes]
@@ -28,7 +28,7 @@ class Counts:
 
     # How many trees the whole text has.
     def total(self):
-        return self.table[0][0].get(len(self.text), 0)
+        return self.table[0][0].get(len(self.signs), 0)
 
     def count_from(self, number, at):
         make = self.makes[number]
@@ -36,7 +36,7 @@ class Counts:
         if kind == "none":
             return {}
         if kind == "sign":
-            return {at + 1: 1} if at < len(self.text) and self.text[at] in make[1] else {}
+            return {at + 1: 1} if at < len(self.signs) and self.signs[at] in make[1] else {}
         if kind == "pick":
             return self.count_pick(number, at)
         if kind == "again":

@@ -38,12 +38,12 @@ def marks_of(tree):
 class Reading:
     def __init__(self, marks, text):
         self.marks = marks
-        self.text = text
+        self.signs = text
         self.marks_used = 0
         self.signs_used = 0
 
     def is_used_up(self):
-        return self.marks_used == len(self.marks) and self.signs_used == len(self.text)
+        return self.marks_used == len(self.marks) and self.signs_used == len(self.signs)
 
     # The next mark, which is one from 0 on, so many as there are choices.
     def take_mark(self, choices):
@@ -56,9 +56,9 @@ class Reading:
         return mark
 
     def take_sign(self, signs):
-        if self.signs_used == len(self.text):
+        if self.signs_used == len(self.signs):
             raise NoTree("there are too few signs")
-        sign = self.text[self.signs_used]
+        sign = self.signs[self.signs_used]
         if sign not in signs:
             raise NoTree("a sign is none of its place")
         self.signs_used += 1

@@ -45,7 +45,7 @@ class Descent:
         self.at = 0
 
     def whole_tree(self):
-        return self.make_tree(0, {len(self.counts.text): 1})
+        return self.make_tree(0, {len(self.counts.signs): 1})
 
     def size(self, number, at, onward):
         ends = self.counts.ends_of(number, at)
@@ -62,7 +62,7 @@ class Descent:
         kind = make[0]
         if kind == "sign":
             self.at += 1
-            return ("sign", self.counts.text[self.at - 1])
+            return ("sign", self.counts.signs[self.at - 1])
         if kind == "row":
             return ("row", self.make_row(self.counts.parts[number], onward))
         if kind == "pick":

@@ -56,6 +56,16 @@ def inner_trees(tree):
     return ()
 
 
+# The trees straight within a tree, each with the number of its make; parts are the numbers of the parts of the make of
+# the tree itself.
+def trees_by_makes(tree, parts):
+    if tree[0] == "pick":
+        return [(tree[2], parts[tree[1]])]
+    if tree[0] == "again":
+        return [(turn, parts[0]) for turn in tree[1]]
+    return list(zip(inner_trees(tree), parts))
+
+
 # All trees within a tree, itself too, in the order of writing.
 def trees_within(tree):
     found = []

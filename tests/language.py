@@ -18,6 +18,7 @@ METHODS = ("append clear copy count endswith extend find get index insert isalnu
 CHANGING = ("append", "clear", "extend", "insert", "pop", "remove", "reverse", "setdefault", "update")
 UNUSED = ("type typing typing_extensions enum Enum IntEnum StrEnum Flag IntFlag Generic Protocol ABC ABCMeta namedtuple "
           "NamedTuple TypedDict TYPE_CHECKING abstractmethod").split()
+VALUES = "count index title find get join lower upper split strip copy add".split()
 DUNDERS = ("__init__", "__eq__", "__repr__", "__str__", "__len__")
 KEYWORDS = {"sorted": ("key", "reverse"), "min": ("key", "default"), "max": ("key", "default"), "sum": ("start",),
             "enumerate": ("start",), "zip": ("strict",)}
@@ -195,6 +196,17 @@ class Look:
                     self.find("L23", inner, "changed while it is walked")
 
 
+# A value of an object is not called like a method of the package, or like what Python's own values have.
+def values_kept(name, source, methods):
+    own = [word for kind in (str, int, list, dict, set, bytes) for word in dir(kind) if word not in VALUES]
+    for node in ast.walk(ast.parse(source)):
+        if isinstance(node, ast.Attribute) and isinstance(node.ctx, ast.Store):
+            if node.attr in methods:
+                yield f"{name}:{node.lineno}: L18 {node.attr} is a method too"
+            if node.attr in own:
+                yield f"{name}:{node.lineno}: L26 {node.attr}"
+
+
 def methods_of(source):
     classes = [node for node in ast.parse(source).body if isinstance(node, ast.ClassDef)]
     return [inner.name for node in classes for inner in node.body if isinstance(inner, ast.FunctionDef)]
@@ -203,4 +215,8 @@ def methods_of(source):
 # Of a dict from the names of a package's files to what stands in them.
 def finds_of(package, sources):
     others = [name for source in sources.values() for name in methods_of(source)]
-    return [find for name, source in sorted(sources.items()) for find in Look(package, name, source, others).all_finds()]
+    finds = []
+    for name, source in sorted(sources.items()):
+        finds.extend(Look(package, name, source, others).all_finds())
+        finds.extend(values_kept(name, source, others))
+    return finds

@@ -1,6 +1,7 @@
 """Patterns to test with, and slow answers by the letter of the document to hold the program against."""
 
 import itertools
+import math
 import random
 
 NONE = ("none",)
@@ -174,3 +175,113 @@ SIXTEEN = row(again(A), pick(BLANK, BLANK, BLANK, BLANK), pick(BLANK, BLANK, BLA
 TWO_HUNDRED = pick(PAIR, PAIR, PAIR, SIXTEEN, again(A))
 ONE_MORE = pick(PAIR, PAIR, PAIR, SIXTEEN, again(A), again(A))
 SIXTY = "a" * 60
+
+
+# How many sign makes a pattern has.
+def sign_makes(pattern):
+    if pattern[0] == "sign":
+        return 1
+    if pattern[0] in ("row", "pick"):
+        return sum(sign_makes(part) for part in pattern[1])
+    return sign_makes(pattern[-1]) if pattern[0] in ("again", "held", "price") else 0
+
+
+# What comes in a tree, in the order of writing: pairs ("mark", number), ("price", number), ("sign", place). The first
+# place of the pattern is handed in.
+def slow_events(pattern, tree, place):
+    kind = pattern[0]
+    if kind == "sign":
+        return [("sign", place)]
+    if kind == "pick":
+        k = tree[1]
+        ahead = sum(sign_makes(part) for part in pattern[1][:k])
+        return [("mark", k)] + slow_events(pattern[1][k], tree[2], place + ahead)
+    if kind == "held":
+        return slow_events(pattern[2], tree[2], place)
+    if kind == "price":
+        return [("price", pattern[1])] + slow_events(pattern[2], tree[2], place)
+    events = []
+    if kind == "row":
+        for part, inner in zip(pattern[1], tree[1]):
+            events += slow_events(part, inner, place)
+            place += sign_makes(part)
+    if kind == "again":
+        for turn in tree[1]:
+            events += [("mark", 0)] + slow_events(pattern[1], turn, place)
+        events.append(("mark", 1))
+    return events
+
+
+# By the letter of 5.1 and 5.2.
+def slow_run(pattern, tree):
+    steps, marks, price = [], (), 0
+    for kind, number in slow_events(pattern, tree, 0):
+        if kind == "mark":
+            marks += (number,)
+        elif kind == "price":
+            price += number
+        else:
+            steps.append((number, marks, price))
+            marks, price = (), 0
+    return (steps, (marks, price))
+
+
+# All trees with at most two turns of each again and the first sign of each place: in these is all that is in any
+# tree between two signs. None where they are too many.
+def trees_of_two_turns(pattern, most):
+    kind = pattern[0]
+    if kind in ("none", "blank"):
+        return [pattern] if kind == "blank" else []
+    if kind == "sign":
+        return [("sign", pattern[1][0])]
+    if kind in ("row", "pick"):
+        inner = [trees_of_two_turns(part, most) for part in pattern[1]]
+    else:
+        inner = [trees_of_two_turns(pattern[-1], most)]
+    if any(trees is None for trees in inner):
+        return None
+    if kind == "row":
+        if math.prod(len(trees) for trees in inner) > most:
+            return None
+        return [("row", trees) for trees in itertools.product(*inner)]
+    if kind == "pick":
+        return [("pick", k, tree) for k, trees in enumerate(inner) for tree in trees]
+    if kind == "again":
+        if len(inner[0]) ** 2 > most:
+            return None
+        return [("again", turns) for n in range(3) for turns in itertools.product(inner[0], repeat=n)]
+    return [(kind, pattern[1], tree) for tree in inner[0]]
+
+
+# The starts, the blanks, and by places the steps and ends that come in the trees.
+def trails_in(pattern, trees):
+    count = sign_makes(pattern)
+    starts, blanks = set(), set()
+    steps, ends = [set() for k in range(count)], [set() for k in range(count)]
+    for tree in trees:
+        run, end = slow_run(pattern, tree)
+        starts.update(run[:1])
+        (ends[run[-1][0]] if run else blanks).add(end)
+        for step, after in zip(run, run[1:]):
+            steps[step[0]].add(after)
+    return starts, blanks, steps, ends
+
+
+# These have 300 and 301 starts, blanks, steps and ends together: blanks alone, and all four kinds of them.
+FULL_BLANKS = row(pick(*[BLANK] * 5), pick(*[BLANK] * 5), pick(*[BLANK] * 4), pick(*[BLANK] * 3))
+OVERFULL_BLANKS = pick(FULL_BLANKS, BLANK)
+SIXTEEN_SIGNS = again(pick(pick(*[A] * 6), pick(*[A] * 6), pick(*[AB] * 4)))
+FULL = pick(SIXTEEN_SIGNS, pick(*[BLANK] * 6), pick(*[BLANK] * 5))
+OVERFULL = pick(SIXTEEN_SIGNS, pick(*[BLANK] * 6), pick(*[BLANK] * 6))
+SIX_BLANKS = pick(*[BLANK] * 6)
+# These have very many.
+HUGE_ONES = (
+    row(*[pick(*[BLANK] * 5)] * 6),
+    row(A, row(*[SIX_BLANKS] * 5), A),
+    again(row(SIX_BLANKS, SIX_BLANKS, A, SIX_BLANKS, SIX_BLANKS)),
+    again(row(again(row(SIX_BLANKS, SIX_BLANKS, A)), SIX_BLANKS, A, SIX_BLANKS)),
+    pick(A, row(row(SIX_BLANKS, SIX_BLANKS), row(SIX_BLANKS, SIX_BLANKS))),
+    row(*[row(*[row(*[row(*[row(*[pick(BLANK, BLANK)] * 2)] * 2)] * 2)] * 2)] * 2),
+)
+# This one has two: the many are in no tree.
+HUGE_BUT_WITHOUT_TEXTS = pick(row(NONE, row(*[SIX_BLANKS] * 4)), A)

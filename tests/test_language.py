@@ -33,7 +33,9 @@ class Language(unittest.TestCase):
                        "def f(xs):\n    for x in xs:\n        xs.append(x)\n", "def f(x):\n    return x / 2\n",
                        "def f(min):\n    return min\n", "def f(x):\n    return map(x)\n", "# a type\n", "_x = 1\n",
                        "def f(xs):\n    ys = reversed(xs)\n    return ys\n", "def f(x, y):\n    return x is y\n",
-                       "class A:\n    x = 1\n", "def f(x):\n    with x:\n        pass\n", "f = 1\nf = 2\n"):
+                       "class A:\n    x = 1\n", "def f(x):\n    with x:\n        pass\n", "f = 1\nf = 2\n",
+                       "class A:\n    def f(self):\n        self.f = 1\n", "def f(x):\n    x.items = 1\n",
+                       "class A:\n    def f(self):\n        pass\n\n\ndef g(x):\n    x.f = 1\n"):
             self.assertNotEqual(finds_of("tastegrove", {"x.py": source}), [], source)
 
 
