@@ -285,3 +285,10 @@ HUGE_ONES = (
 )
 # This one has two: the many are in no tree.
 HUGE_BUT_WITHOUT_TEXTS = pick(row(NONE, row(*[SIX_BLANKS] * 4)), A)
+
+
+# A row of lists with one of them changed: once for each list and each change of it that the function tells.
+def changed_at_each(lists, changes):
+    for k, one in enumerate(lists):
+        for changed in changes(one):
+            yield lists[:k] + [changed] + lists[k + 1:]
