@@ -12,6 +12,13 @@ def check_taste(thing):
         raise NoTaste("this is no taste")
 
 
+# Cheap is none of the tastes by which beginnings lean.
+def check_leaning(thing):
+    check_taste(thing)
+    if thing == "cheap":
+        raise NoTaste("cheap is not among the tastes here")
+
+
 # The first place at which two tuples of trees are unlike; one that is at its end there has no tree at it.
 def first_unlike(ones, others):
     at = 0
