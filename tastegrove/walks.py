@@ -10,6 +10,10 @@ class Walk:
         check_taste(taste)
         self.pattern = pattern
         self.keeper = Keeper(pattern, taste)
+        self.begin()
+
+    # Goes back to the text without signs.
+    def begin(self):
         self.stand = self.keeper.begun()
         self.signs = ""
         # For each sign so far a dict, from the places kept behind it to the way on by which each was come to.

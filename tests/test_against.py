@@ -224,6 +224,15 @@ class LetsAgainst(unittest.TestCase):
                           (most, fewest, rooms[fewest] + 1, 0, 0)):
                 self.assertIs(lets_against(pattern, one, other, paper + [known]), False)
 
+    def test_leans_where_nothing_follows(self):
+        # From these two places no two steps lead to a sign in common, and they have no ends.
+        pattern = row(pick(A, row(B, B)), C)
+        for one in (-1, 0, 1, 2, 3, HUGE):
+            for other in (-1, 0, 1, 2, 3, HUGE):
+                for common in (-1, 0, 1, 2):
+                    self.assertIs(lets_against(pattern, "first", "long", [(0, 1, common, one, other)]),
+                                  one in (0, 1) and other in (0, 1) and common in (0, 1))
+
     def test_one_more(self):
         # Both have ends.
         pattern = again(A)
