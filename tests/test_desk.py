@@ -61,7 +61,8 @@ class Rows(unittest.TestCase):
     def test_blanks_belong_to_the_text(self):
         desk = desk_with(x=again(("sign", " a")))
         self.talk(desk, ("tell x first  a ", "*([ ] [a] [ ])"), ("many x   ", "1"), ("many x  ", "1"), ("many x ", "1"),
-                  ("finds x first  b ", "0 1; 1 1; 2 3; 3 3"), ("tell x first first", "none"), ("many x a a", "1"))
+                  ("finds x first  b ", "0 1; 1 1; 2 3; 3 3"), ("tell x first first", "none"), ("many x a a", "1"),
+                  ("caught x first a  a", "-"), ("caught x first a b", "none"))
         desk = desk_with(x=again(("sign", SIGNS)))
         for text in (SIGNS[:60], SIGNS[-60:], "names", "tell x first a", "  ", "undo"):
             self.assertEqual(desk.say("many x " + text), "1")
